@@ -1,0 +1,1 @@
+"""Programs over lists that pay: read, looked through and run."""

@@ -1,0 +1,13 @@
+"""The refusals that a call may meet, an error class for each."""
+
+
+class NoProgram(Exception):
+    pass
+
+
+class NoFunction(Exception):
+    pass
+
+
+class NoValues(Exception):
+    pass
