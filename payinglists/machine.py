@@ -2,7 +2,6 @@
 
 from payinglists.nodes import by_name
 
-STEPS_ALLOWED = 400
 LONGEST_LIST = 40
 
 
@@ -17,14 +16,16 @@ class Task:
 class Run:
     # Calls may stand hundreds deep in one another, so what is still to be done
     # is kept here, the next task last, and not in calls of Python's.
-    def __init__(self, functions):
+    def __init__(self, functions, allowed):
         self.named = by_name(functions)
+        self.allowed = allowed
         self.tasks = []
         self.given = []
         self.steps = 0
         self.paid = 0
         self.peak = 0
         self.ticks = []
+        self.times_called = {}
         self.is_long = False
 
     def come_to(self, node, bound):
@@ -38,9 +39,12 @@ class Run:
         self.peak = max(self.peak, self.paid)
         self.ticks.append((node.label, node.number))
 
+    def note_call(self, name):
+        self.times_called[name] = self.times_called.get(name, 0) + 1
 
-def run_of(functions, function, values):
-    run = Run(functions)
+
+def run_of(functions, function, values, allowed):
+    run = Run(functions, allowed)
     run.come_to(function.body, bound_by(function, values))
     while run.tasks and not run.is_long:
         do(run, run.tasks.pop())
@@ -57,7 +61,7 @@ def bound_by(function, values):
 def do(run, task):
     if task.parts_done:
         ENDS[task.node.word](run, task.node, task.bound)
-    elif run.steps == STEPS_ALLOWED:
+    elif run.steps == run.allowed:
         run.is_long = True
     else:
         run.steps += 1
@@ -152,6 +156,7 @@ def end_call(run, node, bound):
     values = []
     while len(values) < len(node.parts):
         values.insert(0, run.given.pop())
+    run.note_call(called.name)
     run.come_to(called.body, bound_by(called, values))
 
 

@@ -8,9 +8,12 @@ LIST = 1
 class Node:
     # A node's word is "number", "name" or "nil", or the first word in its brackets.
     # Names that a form tells (X, Y, Z, H, T, F) are no nodes: they stand apart from the parts.
-    def __init__(self, label, depth):
+    # It stands in the program's text from starts_at up to, but without, ends_at.
+    def __init__(self, label, depth, starts_at):
         self.label = label
         self.depth = depth
+        self.starts_at = starts_at
+        self.ends_at = starts_at
         self.word = ""
         self.number = 0
         self.names = []

@@ -142,12 +142,13 @@ def read_expression(reader, depth):
     # Looked at ahead of what is within, so that no text is followed deeper than a program may be.
     if depth > DEEPEST or len(reader.nodes) == MOST_NODES:
         raise NoProgram()
-    node = Node(len(reader.nodes), depth)
+    node = Node(len(reader.nodes), depth, reader.place)
     reader.nodes.append(node)
     if reader.sees("("):
         read_form(reader, node)
     else:
         read_single(reader, node)
+    node.ends_at = reader.place
     return node
 
 

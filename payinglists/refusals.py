@@ -11,3 +11,11 @@ class NoFunction(Exception):
 
 class NoValues(Exception):
     pass
+
+
+class NoNode(Exception):
+    pass
+
+
+class OutOfRange(Exception):
+    pass

@@ -2,15 +2,19 @@
 
 from payinglists.machine import run_of
 from payinglists.nodes import LIST, NUMBER
-from payinglists.programs import new_program, program_of, tick_nodes
-from payinglists.refusals import NoFunction, NoProgram, NoValues
+from payinglists.programs import form_number, function_number, new_program, program_of, text_of, tick_nodes
+from payinglists.refusals import NoFunction, NoNode, NoProgram, NoValues, OutOfRange
 
 NO_PROGRAM = -1
 NO_VALUES = -2
 NO_FUNCTION = -3
+NO_NODE = -4
+OUT_OF_RANGE = -5
 
 GREATEST_NUMBER = 99
 LONGEST_GIVEN = 12
+MOST_TIMES = 9
+STEPS_ALLOWED = 400
 
 
 class Feed:
@@ -29,6 +33,10 @@ class Feed:
         row = self.calls[self.place:self.place + size]
         self.place += size
         return row
+
+    def take_two_rows(self):
+        first = self.take_row()
+        return [first, self.take_row()]
 
     def has_more(self):
         return self.place < len(self.calls)
@@ -60,6 +68,10 @@ def answer_or_refusal(holder, feed):
         return [NO_FUNCTION]
     except NoValues:
         return [NO_VALUES]
+    except NoNode:
+        return [NO_NODE]
+    except OutOfRange:
+        return [OUT_OF_RANGE]
 
 
 def answer_program(holder, feed):
@@ -84,7 +96,10 @@ def answer_kinds(holder, feed):
 
 
 def answer_run(holder, feed):
-    run = asked_run(holder, feed)
+    return account_of(asked_run(holder, feed))
+
+
+def account_of(run):
     account = [1 if run.is_long else 0, run.steps, run.paid, run.peak]
     if not run.is_long:
         account.extend(told_value(run.given[0]))
@@ -115,6 +130,37 @@ def answer_counts(holder, feed):
     return told
 
 
+def answer_calls(holder, feed):
+    run = asked_run(holder, feed)
+    return counted([run.times_called.get(function.name, 0) for function in holder.program.functions])
+
+
+def answer_scaled(holder, feed):
+    asked = feed.take_number()
+    times = feed.take_number()
+    rows = feed.take_two_rows()
+    function = function_of(holder.program, asked)
+    refuse_outside(times, MOST_TIMES)
+    run = run_on(holder.program, function, rows, STEPS_ALLOWED)
+    # The peak is 0 at least and so are the times: what was greatest stays greatest.
+    return [0, run.paid * times, run.peak * times]
+
+
+def answer_within(holder, feed):
+    asked = feed.take_number()
+    allowed = feed.take_number()
+    rows = feed.take_two_rows()
+    function = function_of(holder.program, asked)
+    refuse_outside(allowed, STEPS_ALLOWED)
+    return account_of(run_on(holder.program, function, rows, allowed))
+
+
+def answer_node(holder, feed):
+    program = holder.program
+    node = node_of(program, feed.take_number())
+    return [form_number(node)] + counted(text_of(program, node)) + [function_number(program, node)]
+
+
 def answer_size(holder, feed):
     program = holder.program
     deepest = max([node.depth for node in program.nodes])
@@ -122,25 +168,38 @@ def answer_size(holder, feed):
 
 
 def asked_run(holder, feed):
-    # All of the call is taken first: where it's refused, the next call must still be found.
+    # Here as elsewhere all of a call is taken first: where it's refused, the next one must still be found.
     asked = feed.take_number()
-    first = feed.take_row()
-    second = feed.take_row()
-    functions = holder.program.functions
-    function = function_of(functions, asked)
-    return run_of(functions, function, values_of(function, first, second))
+    rows = feed.take_two_rows()
+    function = function_of(holder.program, asked)
+    return run_on(holder.program, function, rows, STEPS_ALLOWED)
 
 
-def function_of(functions, asked):
-    if asked < 0 or asked >= len(functions):
+def run_on(program, function, rows, allowed):
+    return run_of(program.functions, function, values_of(function, rows), allowed)
+
+
+def function_of(program, asked):
+    if asked < 0 or asked >= len(program.functions):
         raise NoFunction()
-    return functions[asked]
+    return program.functions[asked]
 
 
-def values_of(function, first, second):
-    if len(function.parameters) == 1 and second:
+def node_of(program, label):
+    if label < 0 or label >= len(program.nodes):
+        raise NoNode()
+    return program.nodes[label]
+
+
+def refuse_outside(number, greatest):
+    if number < 0 or number > greatest:
+        raise OutOfRange()
+
+
+def values_of(function, rows):
+    if len(function.parameters) == 1 and rows[1]:
         raise NoValues()
-    return [value_of(parameter.kind, row) for parameter, row in zip(function.parameters, [first, second])]
+    return [value_of(parameter.kind, row) for parameter, row in zip(function.parameters, rows)]
 
 
 def value_of(kind, row):
@@ -163,5 +222,9 @@ ANSWERS = {
     3: answer_run,
     4: answer_ticks,
     5: answer_counts,
+    6: answer_calls,
+    7: answer_scaled,
+    8: answer_within,
+    9: answer_node,
     10: answer_size,
 }

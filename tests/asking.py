@@ -37,23 +37,45 @@ def counts(g, a=(), b=()):
     return [5, g] + counted(a) + counted(b)
 
 
+def calls(g, a=(), b=()):
+    return [6, g] + counted(a) + counted(b)
+
+
+def scaled(g, k, a=(), b=()):
+    return [7, g, k] + counted(a) + counted(b)
+
+
+def within(g, m, a=(), b=()):
+    return [8, g, m] + counted(a) + counted(b)
+
+
+def node(label):
+    return [9, label]
+
+
 def size():
     return [10]
 
 
-def ask(*calls):
-    line = []
-    for call in calls:
-        line.extend(call)
-    told = answers(line)
+def told_node(sort, text, function):
+    """What node answers of a node of this text."""
+    return [sort] + counted(as_bytes(text)) + [function]
+
+
+def line_of(*asked):
+    return [number for call in asked for number in call]
+
+
+def ask(*asked):
+    told = answers(line_of(*asked))
     parted = []
     place = 0
     while place < len(told):
         end = place + 1 + told[place]
         parted.append(told[place + 1:end])
         place = end
-    if place != len(told) or len(parted) != len(calls):
-        raise AssertionError(f"the answers don't fall into {len(calls)} parts: {told}")
+    if place != len(told) or len(parted) != len(asked):
+        raise AssertionError(f"the answers don't fall into {len(asked)} parts: {told}")
     return parted
 
 

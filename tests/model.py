@@ -4,9 +4,11 @@ A text is read loosely into brackets and must be the same when written out again
 looked at by going through all ways; a run goes down into Python's own calls.
 """
 
+import itertools
 import re
 
 NAME = re.compile("[a-z]{1,4}")
+FORMS = ["cons", "add", "sub", "if", "case", "let"]
 RESERVED = {"fun", "nil", "cons", "add", "sub", "if", "case", "let", "call", "tick"}
 
 
@@ -43,6 +45,19 @@ def written(tree):
     return tree if isinstance(tree, str) else "(" + " ".join(written(part) for part in tree) + ")"
 
 
+def counted(row):
+    return [len(row), *row]
+
+
+def sort_of(tree):
+    """The number that node tells first; None of what is no expression."""
+    if isinstance(tree, str):
+        return 2 if tree == "nil" else 0 if tree.isdigit() else 1
+    sorts = {form: place for place, form in enumerate(FORMS, 3)}
+    sorts.update({"call": 6 + len(tree), "tick": 11, "share": 12})
+    return sorts.get(tree[0]) if tree and isinstance(tree[0], str) else None
+
+
 def name(word):
     need(isinstance(word, str) and NAME.fullmatch(word) and word not in RESERVED)
     return word
@@ -54,6 +69,7 @@ class Model:
         self.text = list(text)
         self.depths = []
         self.ticks = []
+        self.told_nodes = []
         signs = bytes(text).decode("latin-1")
         need(signs.endswith("\n"))
         lines = signs[:-1].split("\n")
@@ -66,6 +82,7 @@ class Model:
         self.bodies = []
         for head, tree in zip(self.heads, trees):
             names = {parameter: (("parameter", parameter), kind) for kind, parameter in head[1]}
+            self.place = len(self.bodies)
             kind, _, body = self.node(tree[4], names, 0)
             need(kind == head[2])
             self.bodies.append(body)
@@ -86,6 +103,7 @@ class Model:
         need(depth <= 9)
         label = len(self.depths)
         self.depths.append(depth)
+        self.told_nodes.append([sort_of(tree), *counted(written(tree).encode("latin-1")), self.place])
         if isinstance(tree, str):
             return self.single(tree, names, label)
         need(tree and isinstance(tree[0], str))
@@ -200,12 +218,29 @@ class Model:
             values[parameter] = row if kind == "l" else row[0]
         return values
 
-    def told_runs(self, g, a, b):
-        """What run, ticks and counts answer."""
+    def told_node(self, label):
+        return self.told_nodes[label] if 0 <= label < len(self.told_nodes) else [-4]
+
+    def told_scaled(self, g, k, a, b):
+        account, told_ticks, _, _ = self.told_runs(g, a, b)
+        if account == [-3] or k not in range(10):
+            return [-3] if account == [-3] else [-5]
+        if account == [-2]:
+            return [-2]
+        heights = list(itertools.accumulate((k * paid for paid in told_ticks[2::2]), initial=0))
+        return [0, heights[-1], max(heights)]
+
+    def told_within(self, g, m, a, b):
+        if 0 <= g < len(self.heads) and m not in range(401):
+            return [-5]
+        return self.told_runs(g, a, b, m)[0]
+
+    def told_runs(self, g, a, b, allowed=400):
+        """What run, ticks, counts and calls answer."""
         values = self.bind_values(g, [list(a), list(b)])
         if isinstance(values, list):
-            return [values] * 3
-        walk = Walk(self.bodies, [[parameter for _, parameter in head[1]] for head in self.heads])
+            return [values] * 4
+        walk = Walk(self.bodies, [[parameter for _, parameter in head[1]] for head in self.heads], allowed)
         try:
             value = walk.give(self.bodies[g], values)
             ending = [0, 1, value] if isinstance(value, int) else [1, len(value)] + value
@@ -221,18 +256,21 @@ class Model:
         for label in sorted(self.ticks):
             paid = [payment[1] for payment in walk.payments if payment[0] == label]
             told_counts += [label, len(paid), sum(paid)]
-        return [account + [heights[-1], max(heights)] + ending, told_ticks, told_counts]
+        told_calls = [len(self.heads)] + [walk.called.count(place) for place in range(len(self.heads))]
+        return [account + [heights[-1], max(heights)] + ending, told_ticks, told_counts, told_calls]
 
 
 class Walk:
-    def __init__(self, bodies, parameters):
+    def __init__(self, bodies, parameters, allowed):
         self.bodies = bodies
         self.parameters = parameters
+        self.allowed = allowed
         self.steps = 0
         self.payments = []
+        self.called = []
 
     def give(self, node, names):
-        if self.steps == 400:
+        if self.steps == self.allowed:
             raise Long
         self.steps += 1
         label, word, *rest = node
@@ -256,6 +294,7 @@ class Walk:
             return self.give(rest[1], names)
         values = [self.give(part, names) for part in rest[0]]
         if word == "call":
+            self.called.append(rest[1])
             return self.give(self.bodies[rest[1]], dict(zip(self.parameters[rest[1]], values)))
         first, second = values
         if word == "add":
@@ -272,3 +311,34 @@ def model_of(text):
         return Model(text)
     except Bad:
         return None
+
+
+# For each call, how many whole numbers and how many rows it is handed.
+SHAPES = [(0, 1), (0, 0), (0, 0), (1, 2), (1, 2), (1, 2), (1, 2), (2, 2), (2, 2), (1, 0), (0, 0)]
+
+
+def told_line(line):
+    """What `answers` gives back for a whole line of calls."""
+    model = Model(b"(fun f ((n x)) n x)\n")
+    left = iter(line)
+    told = []
+    for call in left:
+        numbers, rows = SHAPES[call]
+        given = [next(left) for _ in range(numbers)]
+        given += [[next(left) for _ in range(next(left))] for _ in range(rows)]
+        if call == 0:
+            newer = model_of(given[0])
+            model = newer or model
+            told += counted([len(model.heads), len(model.depths)] if newer else [-1])
+        else:
+            told += counted(told_call(model, call, given))
+    return told
+
+
+def told_call(model, call, given):
+    if call in (3, 4, 5, 6):
+        return model.told_runs(*given)[call - 3]
+    if call == 1:
+        return counted(model.text)
+    plain = {2: model.told_kinds, 7: model.told_scaled, 8: model.told_within, 9: model.told_node, 10: model.told_size}
+    return plain[call](*given)

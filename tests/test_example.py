@@ -2,7 +2,8 @@
 
 import unittest
 
-from tests.asking import ask, counted, as_bytes, counts, kinds, program, run, show, size, ticks
+from tests.asking import (as_bytes, ask, calls, counted, counts, kinds, node, program, run, scaled, show, size, ticks,
+                          told_node, within)
 
 NEW = "(fun f ((n x)) n x)\n"
 REV = "(fun rev ((l x) (l y)) l (case x y h t (tick 1 (call rev t (cons h y)))))\n"
@@ -17,6 +18,10 @@ class Example(unittest.TestCase):
             run(1, [4, 3, 9]),
             ticks(1, [7]),
             counts(1, [7]),
+            calls(1, [7]),
+            scaled(1, 3, [7]),
+            within(1, 5, [7]),
+            node(5),
             size(),
             kinds(),
             show(),
@@ -27,13 +32,18 @@ class Example(unittest.TestCase):
             [0, 21, 7, 9, 0, 1, 16],
             [2, 11, 3, 9, -2],
             [3, 2, 0, 0, 9, 1, -2, 11, 1, 3],
+            [2, 0, 1],
+            [0, 3, 9],
+            [1, 5, 3, 3],
+            [3, 10] + as_bytes("(cons h y)") + [0],
             [2, 16, 4, 3],
             [2, 2, 1, 1, 1, 1, 1, 0],
             counted(as_bytes(REV + SUM)),
         ])
 
     def test_the_program_of_a_new_object(self):
-        told = ask(show(), kinds(), size(), run(0, [17]), ticks(0, [17]), counts(0, [17]))
+        told = ask(show(), kinds(), size(), run(0, [17]), ticks(0, [17]), counts(0, [17]), calls(0, [17]),
+                   scaled(0, 9, [17]), within(0, 1, [17]), within(0, 0, [17]), node(0), node(1))
         self.assertEqual(told, [
             counted(as_bytes(NEW)),
             [1, 1, 0, 0],
@@ -41,6 +51,12 @@ class Example(unittest.TestCase):
             [0, 1, 0, 0, 0, 1, 17],
             [0],
             [0],
+            [1, 0],
+            [0, 0, 0],
+            [0, 1, 0, 0, 0, 1, 17],
+            [1, 0, 0, 0],
+            told_node(1, "x", 0),
+            [-4],
         ])
 
 

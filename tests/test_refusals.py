@@ -2,9 +2,19 @@
 
 import unittest
 
-from tests.asking import GREAT, answer_after, ask, counts, program, run, show, ticks
+from tests.asking import (GREAT, answer_after, as_bytes, ask, calls, counted, counts, kinds, node, program, run, scaled,
+                          show, size, ticks, within)
 
-CALLS = (run, ticks, counts)
+
+def scaled_by_2(g, a, b):
+    return scaled(g, 2, a, b)
+
+
+def within_400(g, a, b):
+    return within(g, 400, a, b)
+
+
+CALLS = (run, ticks, counts, calls, scaled_by_2, within_400)
 BOTH = "(fun f ((n x) (l y)) n x)\n"
 TURNED = "(fun f ((l x) (n y)) n y)\n"
 NUMBER = "(fun f ((n x)) n x)\n"
@@ -103,9 +113,77 @@ class Values(Refusals):
         self.assertEqual(answer_after(NUMBERS, run(0, [5], [6])), [0, 1, 0, 0, 0, 1, 5])
         self.assertEqual(answer_after(LISTS, run(0, [5], [6])), [0, 1, 0, 0, 1, 1, 5])
 
+    def test_values_are_handed_on_by_the_later_calls_too(self):
+        two = "(fun f ((n x) (l y)) l (tick 4 (cons x y)))\n"
+        self.assertEqual(answer_after(two, within(0, 400, [5], [6, 7])), [0, 4, 4, 4, 1, 3, 5, 6, 7])
+        self.assertEqual(answer_after(two, scaled(0, 2, [5], [6, 7])), [0, 8, 8])
+        self.assertEqual(answer_after(two, calls(0, [5], [6, 7])), [1, 0])
+
     def test_what_is_refused_leaves_the_program(self):
         told = ask(program(LIST), run(0, [100]), run(9, []), show(), run(0, [3]))
         self.assertEqual(told, [[1, 1], [-2], [-3], [len(LIST)] + list(LIST.encode()), [0, 1, 0, 0, 1, 1, 3]])
+
+
+class Ranges(Refusals):
+    BAD_VALUES = (([], []), ([100], []), ([-1], []), ([5], [5]), ([5, 6], []), ([5] * 20, [GREAT]))
+
+    def test_scaled_takes_k_from_0_to_9(self):
+        for k in range(10):
+            self.assertEqual(answer_after(NUMBER, scaled(0, k, [5])), [0, 0, 0])
+        for k in (-1, -2, -9, 10, 11, 100, 400, GREAT, -GREAT, GREAT - 1):
+            self.assertEqual(answer_after(NUMBER, scaled(0, k, [5])), [-5])
+
+    def test_within_takes_m_from_0_to_400(self):
+        self.assertEqual(answer_after(NUMBER, within(0, 0, [5])), [1, 0, 0, 0])
+        for m in (1, 2, 9, 10, 399, 400):
+            self.assertEqual(answer_after(NUMBER, within(0, m, [5])), [0, 1, 0, 0, 0, 1, 5])
+        for m in (-1, -2, -400, 401, 402, 1000, GREAT, -GREAT, GREAT - 1):
+            self.assertEqual(answer_after(NUMBER, within(0, m, [5])), [-5])
+
+    def test_the_function_comes_first_then_the_range_then_the_values(self):
+        for call, good, bad in ((scaled, (0, 9), (-1, 10, GREAT)), (within, (0, 400), (-1, 401, -GREAT))):
+            for g in (-1, 1, GREAT, -GREAT):
+                for number in good + bad:
+                    for a, b in self.BAD_VALUES + (([5], []),):
+                        self.assertEqual(answer_after(NUMBER, call(g, number, a, b)), [-3])
+            for a, b in self.BAD_VALUES:
+                for number in bad:
+                    self.assertEqual(answer_after(NUMBER, call(0, number, a, b)), [-5])
+                for number in good:
+                    self.assertEqual(answer_after(NUMBER, call(0, number, a, b)), [-2])
+
+
+class NothingChanges(unittest.TestCase):
+    TEXT = "(fun g ((l x)) n (case x (tick -1 0) h t (tick 2 (add h (call g t)))))\n"
+
+    def looks(self):
+        """All that can be told of the program without another one."""
+        return [show(), kinds(), size(), node(0), run(0, [4, 5]), ticks(0, [4]), counts(0, [4]), calls(0, [4, 5]),
+                scaled(0, 3, [4]), within(0, 6, [4, 5])]
+
+    def wanted(self):
+        whole = self.TEXT[self.TEXT.index("(case"):-2]
+        return [counted(as_bytes(self.TEXT)), [1, 1, 1, 0], [1, 8, 4, 2], [7] + counted(as_bytes(whole)) + [0],
+                [0, 15, 3, 4, 0, 1, 9], [2, 3, 2, 1, -1], [2, 1, 1, -1, 3, 1, 2], [1, 2], [0, 3, 6], [1, 6, 2, 2]]
+
+    def test_none_of_the_calls_changes_the_program(self):
+        told = ask(program(self.TEXT), *(self.looks() * 3))
+        self.assertEqual(told, [[1, 8]] + self.wanted() * 3)
+
+    def test_each_refusal_leaves_everything_and_the_calls_behind_it_are_answered(self):
+        refusals = (
+            (program("(fun f ((n x)) n y)\n"), -1), (program([255] * 2000), -1), (program([]), -1),
+            (run(1, [4]), -3), (run(0, [100]), -2), (ticks(-1, [4]), -3), (ticks(0, [4], [4]), -2),
+            (counts(GREAT, [4]), -3), (counts(0, [4] * 13), -2), (calls(1, [4]), -3), (calls(0, [4] * 20), -2),
+            (scaled(1, 10, [4] * 20), -3), (scaled(0, 10, [4] * 20), -5), (scaled(0, 9, [4] * 20), -2),
+            (within(1, 401, [4] * 20, [9] * 20), -3), (within(0, 401, [4] * 20), -5), (within(0, 400, [4], [9]), -2),
+            (node(-1), -4), (node(8), -4), (node(GREAT), -4),
+        )
+        for call, number in refusals:
+            told = ask(call, program(self.TEXT), call, *self.looks(), call, *self.looks())
+            self.assertEqual(told[2:], [[number]] + self.wanted() + [[number]] + self.wanted())
+        told = ask(program(self.TEXT), *[call for call, _ in refusals], *self.looks())
+        self.assertEqual(told, [[1, 8]] + [[number] for _, number in refusals] + self.wanted())
 
 
 if __name__ == "__main__":

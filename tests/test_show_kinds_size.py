@@ -57,6 +57,28 @@ class Size(unittest.TestCase):
         self.assertEqual(answer_after(deep + flat, size()), [2, 8, 3, 0])
         self.assertEqual(answer_after(flat + deep, size()), [2, 8, 3, 0])
 
+    def test_the_greatest_depth_and_the_most_nodes(self):
+        chain = "(tick 1 " * 9 + "x" + ")" * 9
+        self.assertEqual(answer_after(f"(fun f ((n x)) n {chain})\n", size()), [1, 10, 9, 9])
+        lines = [f"(fun {name} ((n x)) n {chain})\n" for name in "abc"]
+        wide = "(add " * 9 + "x" + " 1)" * 9
+        self.assertEqual(answer_after("".join(lines) + f"(fun d ((n x)) n {wide})\n", size()), [4, 49, 9, 27])
+        wider = "(add " * 9 + "x" + " 1)" * 8 + " (tick 0 1))"
+        most = "".join(lines[:2]) + f"(fun d ((n x)) n {wider})\n(fun e ((n x)) n {wider})\n"
+        self.assertEqual(answer_after(most, size()), [4, 60, 9, 20])
+
+    def test_every_form_counts_as_one_node_and_ticks_alone_as_ticks(self):
+        for expression, nodes, depth in (
+                ("7", 1, 0), ("x", 1, 0), ("(add x 1)", 3, 1), ("(sub x 1)", 3, 1), ("(if x 1 2)", 4, 1),
+                ("(case y 1 h t h)", 3, 1), ("(let z 1 z)", 3, 1), ("(call f x y)", 3, 1), ("(call g y)", 2, 1),
+                ("(share y a b x)", 2, 1), ("(call g nil)", 2, 1), ("(call g (cons x y))", 4, 2)):
+            text = f"(fun f ((n x) (l y)) n {expression})\n(fun g ((l x)) n 0)\n"
+            self.assertEqual(answer_after(text, size()), [2, nodes + 1, depth, 0])
+
+    def test_size_follows_the_program(self):
+        told = ask(size(), program(FOUR), size(), program("nothing"), size(), program("(fun f ((l x)) l x)\n"), size())
+        self.assertEqual(told, [[1, 1, 0, 0], [4, 21], [4, 21, 4, 4], [-1], [4, 21, 4, 4], [1, 1], [1, 1, 0, 0]])
+
     def test_names_told_in_forms_are_no_nodes(self):
         text = "(fun f ((l x)) n (share x a b (case a (let z b 1) h t (tick 3 h))))\n"
         self.assertEqual(ask(program(text), size()), [[1, 7], [1, 7, 3, 1]])
